@@ -14,7 +14,7 @@ import (
 	"annulet/table"
 )
 
-// The second telling gives each choice a rank, a row of numbers without a sign, the first that differs decides: how far its identity is, how far clockwise, whether it is the node itself, whether a neighbour, and what is left of it that counts.
+// The second telling gives each choice a rank, a row of numbers without a sign, the first that differs decides: how far its identity is, how far clockwise, whether it has N -1; and, of those that haven't, whether it is a neighbour, and what is left of it that counts.
 
 // words are an identity's high and low half.
 func words(a api.ID) (hi, lo uint64) {
@@ -59,8 +59,12 @@ func keyRank(p api.Path) []uint64 {
 }
 
 func rank(d api.ID, c route.Choice) []uint64 {
-	r := append(nearness(d, c.ID), first(c.N == -1), first(c.Near))
-	if !c.Near && c.N != -1 {
+	r := append(nearness(d, c.ID), first(c.N == -1))
+	if c.N == -1 {
+		return r
+	}
+	r = append(r, first(c.Near))
+	if !c.Near {
 		r = append(r, keyRank(c.P)...)
 	}
 	return append(r, signed(int64(c.N)))
@@ -307,8 +311,7 @@ func TestBeforeAtEdges(t *testing.T) {
 		{"a Near one with -1 ahead of another one", near(x, -1), near(x, -2)},
 		{"a path with -1 ahead of a neighbour", over(x, high, -1), near(x, 0)},
 		{"a path with -1 ahead of a lesser key", over(x, high, -1), over(x, low, 0)},
-		{"two with -1: the Near one", near(x, -1), itself(x)},
-		{"two with -1: the Near one, ahead of a path", near(x, -1), over(x, low, -1)},
+		{"two with -1, one nearer to d: that one, though the other is Near", itself(id(8)), near(id(6), -1)},
 		{"a neighbour ahead of a path", near(x, 5), over(x, low, 0)},
 		{"a neighbour with the greatest number ahead of a path", near(x, math.MaxInt), over(x, low, math.MinInt)},
 		{"the lesser neighbour", near(x, 1), near(x, 2)},
@@ -336,8 +339,11 @@ func TestNeitherIsBefore(t *testing.T) {
 	for what, c := range map[string][2]route.Choice{
 		"the same":                           {over(x, low, 3), over(x, low, 3)},
 		"twice the node itself":              {itself(x), itself(x)},
+		"the node itself and a Near one":     {itself(x), near(x, -1)},
 		"two with -1, with keys":             {over(x, low, -1), over(x, high, -1)},
 		"two with -1, one with a key":        {itself(x), over(x, high, -1)},
+		"two with -1, one Near, one a path":  {near(x, -1), over(x, low, -1)},
+		"two with -1, one Near, with a key":  {{ID: x, Near: true, P: high, N: -1}, over(x, low, -1)},
 		"two Near ones with -1":              {near(x, -1), near(x, -1)},
 		"two Near ones with -1, with keys":   {{ID: x, Near: true, P: low, N: -1}, {ID: x, Near: true, P: high, N: -1}},
 		"one neighbour, with unlike keys":    {{ID: x, Near: true, P: low, N: 2}, {ID: x, Near: true, P: high, N: 2}},
@@ -436,11 +442,11 @@ func TestSeveralWays(t *testing.T) {
 func TestOwnIdentity(t *testing.T) {
 	for _, self := range someIDs() {
 		p := api.Path{N: math.MinInt64}
-		nears := []api.Near{{N: 0, ID: self}, {N: math.MinInt, ID: self}, {N: -2, ID: self}}
+		nears := []api.Near{{N: 0, ID: self}, {N: math.MinInt, ID: self}, {N: -2, ID: self}, {N: -1, ID: self}}
 		entries := []api.Entry{{P: p, A: self, B: shift(self, 9), Na: 0, Nb: 1}, {P: api.Path{N: 5}, A: shift(self, 9), B: self, Na: 2, Nb: 0}}
 		tab := tableOf(t, entries...)
 		known := []route.Choice{
-			itself(self), near(self, 0), near(self, math.MinInt), near(self, -2),
+			itself(self), near(self, 0), near(self, math.MinInt), near(self, -2), near(self, -1),
 			over(self, p, 0), over(shift(self, 9), p, 1), over(shift(self, 9), api.Path{N: 5}, 2), over(self, api.Path{N: 5}, 0),
 		}
 		if l := route.Known(self, nears, tab); !slices.Equal(l, known) {
@@ -451,6 +457,21 @@ func TestOwnIdentity(t *testing.T) {
 				t.Errorf("%x chooses %v for %x", self, c, d)
 			}
 		}
+	}
+}
+
+// P13.1, P13.2: neighbours with the node's own identity and its -1, at any place, as often as may be, with and without entries: the node itself stands first, so it is chosen, not a Near one.
+func TestNearWithoutPlace(t *testing.T) {
+	self := id(5)
+	own := []api.Near{{N: -1, ID: self}, {N: 3, ID: self}, {N: -2, ID: self}, {N: 2, ID: id(-40)}}
+	for _, tab := range []*table.Table{nil, table.New(9), tableOf(t, fewEntries()[4])} {
+		lists(own, 3, func(nears []api.Near) {
+			for _, d := range []api.ID{self, id(4), id(7)} {
+				if c := route.Choose(d, self, nears, tab); c != itself(self) {
+					t.Fatalf("Choose(%x, %x, %v) = %v", d, self, nears, c)
+				}
+			}
+		})
 	}
 }
 
@@ -683,7 +704,7 @@ func holds(t *testing.T, d, self api.ID, nears []api.Near, tab *table.Table) {
 			t.Fatalf("for %x: %v is nearer than %v", d, x, c)
 		}
 	}
-	if c.N == -1 && c.ID == self {
+	if c == itself(self) {
 		return
 	}
 	if !toldNearer(d, c.ID, self) || c.ID == self {
@@ -715,7 +736,7 @@ func TestNearestIsChosen(t *testing.T) {
 	}
 }
 
-// P13.2: where each neighbour has a place, the node is chosen only as itself: it, whole, or one that is nearer.
+// P13.2: where each neighbour has a place, -1 is told of the node itself alone; all others that are chosen are nearer.
 func TestItselfOrNearer(t *testing.T) {
 	r := newDrawer(1329, 4)
 	for range 500 {
@@ -788,7 +809,7 @@ func TestNilAndEmpty(t *testing.T) {
 				for _, n := range numbers() {
 					one := []api.Near{{N: n, ID: d}}
 					want := itself(self)
-					if d != self || n == -1 {
+					if d != self {
 						want = near(d, n)
 					}
 					if c := route.Choose(d, self, one, tab); c != want {
