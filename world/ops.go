@@ -141,7 +141,7 @@ func (w *World) round() {
 	}
 }
 
-// flow lets as many frames as are under way arrive, pair by pair: were there?
+// flow lets as many frames as are under way arrive, pair by pair: was anything under way?
 func (w *World) flow() bool {
 	moved := false
 	for a := range w.places {
